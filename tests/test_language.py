@@ -1,0 +1,176 @@
+"""The rules of the language that can be seen from a file alone, for every file of the package."""
+
+import ast
+import builtins
+import pathlib
+import re
+import unittest
+
+PACKAGE = pathlib.Path(__file__).resolve().parent.parent / "tonemirror"
+
+STATEMENTS = (
+    ast.FunctionDef, ast.ClassDef, ast.Return, ast.Assign, ast.AugAssign, ast.For, ast.While, ast.If,
+    ast.Raise, ast.Try, ast.ImportFrom, ast.Expr, ast.Pass, ast.Break, ast.Continue,
+)
+EXPRESSIONS = (
+    ast.BoolOp, ast.BinOp, ast.UnaryOp, ast.Lambda, ast.IfExp, ast.Dict, ast.ListComp, ast.Compare, ast.Call,
+    ast.JoinedStr, ast.FormattedValue, ast.Constant, ast.Attribute, ast.Subscript, ast.Name, ast.List, ast.Tuple,
+    ast.Slice,
+)
+BUILT_IN = """
+len range enumerate zip min max sum abs sorted reversed int str bool list tuple dict set frozenset isinstance ord
+repr any all divmod Exception ValueError TypeError KeyError IndexError LookupError ZeroDivisionError ArithmeticError
+OverflowError RuntimeError NotImplementedError AttributeError StopIteration
+""".split()
+METHODS = """
+append clear copy count endswith extend find get index insert isalnum isalpha isdigit islower isspace isupper items
+join keys ljust lower lstrip partition pop remove replace reverse rfind rjust rpartition rsplit rstrip setdefault
+split splitlines startswith strip update upper values zfill bit_length
+""".split()
+WORDS_OUT = """
+type typing typing_extensions enum Enum IntEnum StrEnum Flag IntFlag Generic Protocol ABC ABCMeta namedtuple
+NamedTuple TypedDict TYPE_CHECKING abstractmethod
+""".split()
+METHODS_OF_CLASSES = ["__init__", "__eq__", "__repr__", "__str__", "__len__"]
+PIECES_OUT = ["dataclass", "overload", "contextmanager"]
+
+
+def files():
+    return sorted(PACKAGE.rglob("*.py"))
+
+
+def bound_names(tree):
+    """Names that the file itself makes: defs, classes, imports, parameters and assigned names."""
+    names = []
+    for node in ast.walk(tree):
+        if isinstance(node, (ast.FunctionDef, ast.ClassDef)):
+            names.append(node.name)
+        elif isinstance(node, ast.arg):
+            names.append(node.arg)
+        elif isinstance(node, ast.alias):
+            names.append(node.asname or node.name)
+        elif isinstance(node, ast.Name) and isinstance(node.ctx, ast.Store):
+            names.append(node.id)
+        elif isinstance(node, ast.ExceptHandler) and node.name:
+            names.append(node.name)
+    return names
+
+
+def own_methods():
+    """Names of methods and of values of the package's own classes."""
+    names = []
+    for path in files():
+        for node in ast.walk(ast.parse(path.read_text())):
+            if isinstance(node, ast.ClassDef):
+                names.extend(part.name for part in node.body if isinstance(part, ast.FunctionDef))
+            if isinstance(node, ast.Attribute) and isinstance(node.ctx, ast.Store):
+                names.append(node.attr)
+    return names
+
+
+class Files(unittest.TestCase):
+    def test_the_package_holds_only_plain_files(self):
+        self.assertTrue((PACKAGE / "__init__.py").is_file())
+        for path in PACKAGE.rglob("*"):
+            if "__pycache__" not in path.parts:
+                self.assertRegex(path.name, r"\A[a-z0-9_]+\.py\Z")
+
+    def test_signs_and_sizes(self):
+        for path in files():
+            with self.subTest(file=path.name):
+                text = path.read_bytes().decode("ascii")
+                self.assertRegex(text, r"\A[ -~\n]*\Z")
+                lines = text.split("\n")
+                self.assertLessEqual(len(lines), 400)
+                self.assertLessEqual(max(len(line) for line in lines), 120)
+
+    def test_words_that_stand_nowhere(self):
+        for path in files():
+            with self.subTest(file=path.name):
+                text = path.read_text()
+                words = re.findall(r"\w+", text)
+                self.assertEqual([word for word in words if word in WORDS_OUT], [])
+                self.assertEqual([piece for piece in PIECES_OUT if piece in text], [])
+
+
+class Trees(unittest.TestCase):
+    def nodes(self):
+        for path in files():
+            for node in ast.walk(ast.parse(path.read_text())):
+                yield path.name, node
+
+    def test_statements_and_expressions(self):
+        for name, node in self.nodes():
+            if isinstance(node, ast.stmt):
+                self.assertIsInstance(node, STATEMENTS, (name, node.lineno))
+            if isinstance(node, ast.expr):
+                self.assertIsInstance(node, EXPRESSIONS + (ast.Set,), (name, node.lineno))
+            self.assertNotIsInstance(node, (ast.Div, ast.MatMult, ast.Starred))
+            if isinstance(node, ast.Constant):
+                self.assertIn(type(node.value), (int, str, bool, type(None)), (name, node.lineno))
+                self.assertNotIn("%", str(node.value), (name, node.lineno))
+
+    def test_texts_by_themselves_stand_at_a_files_top_alone(self):
+        for path in files():
+            tree = ast.parse(path.read_text())
+            for node in ast.walk(tree):
+                if isinstance(node, ast.Expr) and node is not tree.body[0]:
+                    self.assertIsInstance(node.value, ast.Call, (path.name, node.lineno))
+
+    def test_assignments_functions_and_comprehensions(self):
+        for name, node in self.nodes():
+            if isinstance(node, ast.Assign):
+                self.assertEqual(len(node.targets), 1, (name, node.lineno))
+            if isinstance(node, (ast.For, ast.While)):
+                self.assertEqual(node.orelse, [], (name, node.lineno))
+            if isinstance(node, ast.ListComp):
+                self.assertEqual(len(node.generators), 1, (name, node.lineno))
+                self.assertLessEqual(len(node.generators[0].ifs), 1, (name, node.lineno))
+            if isinstance(node, (ast.FunctionDef, ast.ClassDef)):
+                self.assertEqual(node.decorator_list, [], (name, node.lineno))
+            if isinstance(node, ast.FunctionDef):
+                self.assertLessEqual(node.end_lineno - node.lineno + 1, 40, (name, node.lineno))
+                self.assertEqual((node.args.vararg, node.args.kwarg, node.args.kwonlyargs), (None, None, []))
+
+    def test_imports(self):
+        for name, node in self.nodes():
+            if isinstance(node, ast.ImportFrom):
+                self.assertEqual(node.level, 0, (name, node.lineno))
+                self.assertRegex(node.module, r"\Atonemirror\.[a-z_]+\Z")
+                self.assertNotIn("*", [alias.name for alias in node.names])
+
+    def test_names(self):
+        for path in files():
+            tree = ast.parse(path.read_text())
+            bound = bound_names(tree)
+            for name in bound:
+                if name not in METHODS_OF_CLASSES:
+                    self.assertRegex(name, r"\A[A-Za-z][A-Za-z0-9_]*\Z", path.name)
+                    self.assertFalse(hasattr(builtins, name), (path.name, name))
+            for node in ast.walk(tree):
+                if isinstance(node, ast.Name) and isinstance(node.ctx, ast.Load):
+                    self.assertIn(node.id, bound + BUILT_IN, (path.name, node.lineno))
+
+    def test_methods(self):
+        known = METHODS + own_methods()
+        for name, node in self.nodes():
+            if isinstance(node, ast.Attribute):
+                self.assertIn(node.attr, known, (name, node.lineno))
+
+    def test_sets_are_not_kept(self):
+        for path in files():
+            tree = ast.parse(path.read_text())
+            held = []
+            for node in ast.walk(tree):
+                if isinstance(node, ast.Call) and getattr(node.func, "id", "") in ("sorted", "len"):
+                    held.extend(id(part) for part in ast.walk(node) if part is not node)
+                if isinstance(node, ast.Compare):
+                    held.extend(id(part) for part in ast.walk(node))
+            for node in ast.walk(tree):
+                made = isinstance(node, ast.Call) and getattr(node.func, "id", "") in ("set", "frozenset")
+                if made or isinstance(node, ast.Set):
+                    self.assertIn(id(node), held, (path.name, node.lineno))
+
+
+if __name__ == "__main__":
+    unittest.main()

@@ -1,0 +1,1 @@
+"""Tonemirror: tones on a wheel, turned and mirrored."""
