@@ -156,7 +156,7 @@ class ChangesTogether(unittest.TestCase):
         self.assertEqual(then(7, ("mirror", 1), ("turn", 2)), ("mirror", 3))
 
     def test_does_the_same_as_the_first_and_then_the_second(self):
-        for n in (3, 4, 5, 8, 11, 12, 23, 24):
+        for n in WHEELS:
             for one in changes(n):
                 for other in changes(n):
                     told = then(n, one, other)
