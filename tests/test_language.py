@@ -31,6 +31,9 @@ WORDS_OUT = """
 type typing typing_extensions enum Enum IntEnum StrEnum Flag IntFlag Generic Protocol ABC ABCMeta namedtuple
 NamedTuple TypedDict TYPE_CHECKING abstractmethod
 """.split()
+WALKED = ["zip", "enumerate", "reversed", "range"]
+WALKED_METHODS = ["items", "keys", "values"]
+WALKERS = ["list", "tuple", "dict", "sorted", "sum", "any", "all", "enumerate", "zip", "min", "max"]
 METHODS_OF_CLASSES = ["__init__", "__eq__", "__repr__", "__str__", "__len__"]
 PIECES_OUT = ["dataclass", "overload", "contextmanager"]
 
@@ -54,6 +57,18 @@ def bound_names(tree):
         elif isinstance(node, ast.ExceptHandler) and node.name:
             names.append(node.name)
     return names
+
+
+def drawn_from(tree):
+    """The package's own files that a file draws from, by the names of the files."""
+    return [node.module.rpartition(".")[2] for node in tree.body if isinstance(node, ast.ImportFrom)]
+
+
+def called_name(node):
+    """The name of what is called, of a plain name or a method."""
+    if not isinstance(node, ast.Call):
+        return ""
+    return node.func.attr if isinstance(node.func, ast.Attribute) else getattr(node.func, "id", "")
 
 
 def own_methods():
@@ -138,6 +153,54 @@ class Trees(unittest.TestCase):
                 self.assertEqual(node.level, 0, (name, node.lineno))
                 self.assertRegex(node.module, r"\Atonemirror\.[a-z_]+\Z")
                 self.assertNotIn("*", [alias.name for alias in node.names])
+
+    def test_imports_are_from_the_file_that_defines_the_name(self):
+        for name, node in self.nodes():
+            if isinstance(node, ast.ImportFrom):
+                source = ast.parse((PACKAGE / (node.module.rpartition(".")[2] + ".py")).read_text())
+                defined = [part.name for part in source.body if isinstance(part, (ast.FunctionDef, ast.ClassDef))]
+                for part in source.body:
+                    if isinstance(part, ast.Assign):
+                        defined.append(part.targets[0].id)
+                for alias in node.names:
+                    self.assertIn(alias.name, defined, (name, node.lineno))
+
+    def test_no_two_files_draw_from_one_another(self):
+        left = {path.stem: drawn_from(ast.parse(path.read_text())) for path in files()}
+        while left:
+            # Files that draw from none that is left are taken away; of a ring none ever is.
+            free = [name for name in left if not any(source in left for source in left[name])]
+            self.assertNotEqual(free, [], sorted(left))
+            for name in free:
+                del left[name]
+
+    def test_no_parameter_or_local_is_called_like_an_import_or_a_class(self):
+        for path in files():
+            tree = ast.parse(path.read_text())
+            taken = [node.name for node in tree.body if isinstance(node, ast.ClassDef)]
+            for node in tree.body:
+                if isinstance(node, ast.ImportFrom):
+                    taken.extend(alias.asname or alias.name for alias in node.names)
+            for node in ast.walk(tree):
+                if isinstance(node, ast.arg):
+                    self.assertNotIn(node.arg, taken, (path.name, node.lineno))
+                if isinstance(node, ast.Name) and isinstance(node.ctx, ast.Store):
+                    self.assertNotIn(node.id, taken, (path.name, node.lineno))
+
+    def test_what_is_walked_is_walked_on_the_spot(self):
+        for path in files():
+            tree = ast.parse(path.read_text())
+            walked = []
+            for node in ast.walk(tree):
+                if isinstance(node, (ast.For, ast.comprehension)):
+                    walked.append(id(node.iter))
+                if called_name(node) in WALKERS and isinstance(node.func, ast.Name) and node.args:
+                    walked.append(id(node.args[0]))
+                if called_name(node) == "join" and isinstance(node.func.value, ast.Constant):
+                    walked.append(id(node.args[0]))
+            for node in ast.walk(tree):
+                if called_name(node) in WALKED + WALKED_METHODS:
+                    self.assertIn(id(node), walked, (path.name, node.lineno))
 
     def test_names(self):
         for path in files():
