@@ -1,4 +1,7 @@
-"""Wheels and crowds that the tests walk through, and plain checks of what is told."""
+"""Wheels, crowds, chords, leadings and rows that the tests walk through, and plain checks of what is told."""
+
+import functools
+import itertools
 
 WHEELS = list(range(3, 25))
 SMALL_WHEELS = list(range(3, 8))
@@ -120,3 +123,98 @@ def is_chord(n, value):
         and 0 <= value[0] < n
         and value[1] in ("up", "down")
     )
+
+
+def mixed_numbers(many):
+    """Fixed numbers that look mixed, so that every run tests the same things."""
+    number = 12345
+    found = []
+    for _ in range(many):
+        number = (number * 1103515245 + 12345) % (1 << 31)
+        found.append(number >> 8)
+    return found
+
+
+def shuffled(things, start):
+    """The things in another order, for each start another one."""
+    left = list(things)
+    found = []
+    for number in mixed_numbers(start + len(left))[start:]:
+        found.append(left.pop(number % len(left)))
+    return found
+
+
+def all_rows(n):
+    return list(itertools.permutations(range(n)))
+
+
+def some_rows(n):
+    """Rising, falling, by steps that go round the wheel, rows that two forms make the same, and mixed ones."""
+    chosen = [tuple(range(n)), tuple(range(n - 1, -1, -1)), tuple(range(1, n)) + (0,)]
+    for k in range(2, n):
+        by_steps = tuple(k * place % n for place in range(n))
+        if len(set(by_steps)) == n:
+            chosen.append(by_steps)
+    if n % 2 == 0:
+        # Its second half, read backwards, is its first half turned half way round.
+        chosen.append(tuple(range(n // 2)) + tuple(range(n - 1, n // 2 - 1, -1)))
+    chosen += [tuple(shuffled(range(n), start)) for start in range(4)]
+    return sorted(set(chosen))
+
+
+def all_leadings(n):
+    return [
+        list(zip(one, seconds))
+        for one in all_crowds(n)
+        for seconds in itertools.permutations(range(n), len(one))
+    ]
+
+
+def some_leadings(n):
+    """Of no pair, of one pair, of all tones, of pairs half way round, and mixed ones of many sizes."""
+    half = n // 2
+    chosen = [
+        [],
+        [(0, 0)],
+        [(0, half)],
+        [(n - 1, (half - 1) % n)],
+        [(0, n - 1), (n - 1, 0)],
+        [(tone, (tone + half) % n) for tone in range(n)],
+        [(tone, (tone + half) % n) for tone in range(half)],
+    ]
+    for k in (0, 1, half, n - 1):
+        chosen.append([(tone, (k - tone) % n) for tone in range(n)])
+    chosen += [list(zip(range(n), row)) for row in some_rows(n)[:8]]
+    for start, size in enumerate([2, 3, half, half + 1, n - 1, n]):
+        firsts = sorted(shuffled(range(n), start)[:size])
+        chosen.append(list(zip(firsts, shuffled(range(n), start + 7)[:size])))
+    return chosen
+
+
+def chosen_leadings():
+    """Wheels and leadings: all leadings of wheels up to 5 tones, chosen ones of the larger."""
+    for n in WHEELS:
+        for leading in all_leadings(n) if n <= 5 else some_leadings(n):
+            yield n, leading
+
+
+def is_leading(n, value):
+    return (
+        type(value) is list
+        and all(type(pair) is tuple and len(pair) == 2 for pair in value)
+        and is_crowd(n, tuple(a for a, b in value))
+        and is_crowd(n, tuple(sorted(b for a, b in value)))
+    )
+
+
+@functools.lru_cache(maxsize=None)
+def move_by_hand(n, one, other):
+    """Point 4: of the ways from a tone to another the shortest, upwards half way round."""
+    found = [far for far in range(-n, n + 1) if (one + far - other) % n == 0 and -n < 2 * far <= n]
+    if len(found) != 1:
+        raise AssertionError((n, one, other))
+    return found[0]
+
+
+def distance_by_hand(n, one, other):
+    return min(abs(one - other), n - abs(one - other))

@@ -202,6 +202,19 @@ class Trees(unittest.TestCase):
                 if called_name(node) in WALKED + WALKED_METHODS:
                     self.assertIn(id(node), walked, (path.name, node.lineno))
 
+    def test_exponents_are_written(self):
+        for name, node in self.nodes():
+            if isinstance(node, (ast.BinOp, ast.AugAssign)) and isinstance(node.op, ast.Pow):
+                exponent = node.right if isinstance(node, ast.BinOp) else node.value
+                self.assertIsInstance(exponent, ast.Constant, (name, node.lineno))
+                self.assertIn(exponent.value, range(65), (name, node.lineno))
+
+    def test_is_stands_beside_none_true_and_false_alone(self):
+        for name, node in self.nodes():
+            if isinstance(node, ast.Compare) and any(isinstance(op, (ast.Is, ast.IsNot)) for op in node.ops):
+                values = [part.value for part in node.comparators if isinstance(part, ast.Constant)]
+                self.assertTrue(values and all(value in (None, True, False) for value in values), (name, node.lineno))
+
     def test_names(self):
         for path in files():
             tree = ast.parse(path.read_text())
