@@ -135,6 +135,16 @@ def mixed_numbers(many):
     return found
 
 
+def well_mixed_numbers(many, start):
+    """Like mixed_numbers, for each start others; here the last bits look mixed too."""
+    number = start
+    found = []
+    for _ in range(many):
+        number = (number * 6364136223846793005 + 1442695040888963407) % (1 << 64)
+        found.append(number >> 33)
+    return found
+
+
 def shuffled(things, start):
     """The things in another order, for each start another one."""
     left = list(things)
@@ -218,3 +228,32 @@ def move_by_hand(n, one, other):
 
 def distance_by_hand(n, one, other):
     return min(abs(one - other), n - abs(one - other))
+
+
+def counts_by_hand(n, crowd):
+    found = [distance_by_hand(n, one, other) for one, other in itertools.combinations(crowd, 2)]
+    return tuple(found.count(d) for d in range(1, n // 2 + 1))
+
+
+def image_of_tones(n, change):
+    """Point 5, all tones at once."""
+    if change[0] == "turn":
+        return [(tone + change[1]) % n for tone in range(n)]
+    return [(change[1] - tone) % n for tone in range(n)]
+
+
+@functools.lru_cache(maxsize=None)
+def changes_and_images(n):
+    listed = [(word, k) for word in ("turn", "mirror") for k in range(n)]
+    return [(change, image_of_tones(n, change)) for change in listed]
+
+
+@functools.lru_cache(maxsize=None)
+def found_ways(n, one, other):
+    return [change for change, image in changes_and_images(n) if {image[tone] for tone in one} == set(other)]
+
+
+def ways_by_hand(n, one, other):
+    """Point 8, from the tones that each change makes of all tones."""
+    # A change leaves as many tones as there were.
+    return list(found_ways(n, one, other)) if len(one) == len(other) else []

@@ -1,251 +1,403 @@
-"""The rules of the language that can be seen from a file alone, for every file of the package."""
-
-import ast
-import builtins
-import pathlib
-import re
+import itertools
 import unittest
 
-PACKAGE = pathlib.Path(__file__).resolve().parent.parent / "tonemirror"
-
-STATEMENTS = (
-    ast.FunctionDef, ast.ClassDef, ast.Return, ast.Assign, ast.AugAssign, ast.For, ast.While, ast.If,
-    ast.Raise, ast.Try, ast.ImportFrom, ast.Expr, ast.Pass, ast.Break, ast.Continue,
+from tests.samples import WHEELS
+from tests.sayings_by_hand import (
+    MOST_TIMES, all_within, can_be_written, chosen_times, in_rows, layers, mirror, mixed_sayings, read_by_hand, row,
+    text_by_hand, times, turn, undo, undone, written_up_to,
 )
-EXPRESSIONS = (
-    ast.BoolOp, ast.BinOp, ast.UnaryOp, ast.Lambda, ast.IfExp, ast.Dict, ast.ListComp, ast.Compare, ast.Call,
-    ast.JoinedStr, ast.FormattedValue, ast.Constant, ast.Attribute, ast.Subscript, ast.Name, ast.List, ast.Tuple,
-    ast.Slice,
-)
-BUILT_IN = """
-len range enumerate zip min max sum abs sorted reversed int str bool list tuple dict set frozenset isinstance ord
-repr any all divmod Exception ValueError TypeError KeyError IndexError LookupError ZeroDivisionError ArithmeticError
-OverflowError RuntimeError NotImplementedError AttributeError StopIteration
-""".split()
-METHODS = """
-append clear copy count endswith extend find get index insert isalnum isalpha isdigit islower isspace isupper items
-join keys ljust lower lstrip partition pop remove replace reverse rfind rjust rpartition rsplit rstrip setdefault
-split splitlines startswith strip update upper values zfill bit_length
-""".split()
-WORDS_OUT = """
-type typing typing_extensions enum Enum IntEnum StrEnum Flag IntFlag Generic Protocol ABC ABCMeta namedtuple
-NamedTuple TypedDict TYPE_CHECKING abstractmethod
-""".split()
-WALKED = ["zip", "enumerate", "reversed", "range"]
-WALKED_METHODS = ["items", "keys", "values"]
-WALKERS = ["list", "tuple", "dict", "sorted", "sum", "any", "all", "enumerate", "zip", "min", "max"]
-METHODS_OF_CLASSES = ["__init__", "__eq__", "__repr__", "__str__", "__len__"]
-PIECES_OUT = ["dataclass", "overload", "contextmanager"]
+from tonemirror.errors import NoText, ToneError
+from tonemirror.language import read_saying, saying_text
+from tonemirror.sayings import does
+from tonemirror.wheel import changes
+
+# A saying and its text, each sort and sorts within one another.
+PAIRS = [
+    (turn(5), "t5"),
+    (mirror(0), "m0"),
+    (turn(11), "t11"),
+    (row(), "()"),
+    (row(turn(5)), "(t5)"),
+    (row(turn(5), mirror(3)), "(t5 m3)"),
+    (row(row(), row()), "(() ())"),
+    (row(row(turn(1)), mirror(10), row(turn(0), turn(0))), "((t1) m10 (t0 t0))"),
+    (times(turn(5), 3), "t5*3"),
+    (times(turn(5), 0), "t5*0"),
+    (times(turn(5), 1), "t5*1"),
+    (times(turn(5), 10), "t5*10"),
+    (times(mirror(2), MOST_TIMES), "m2*1" + "0" * 30),
+    (times(mirror(2), MOST_TIMES - 1), "m2*" + "9" * 30),
+    (times(row(), 7), "()*7"),
+    (times(row(turn(1), mirror(2)), 7), "(t1 m2)*7"),
+    (undo(turn(5)), "~t5"),
+    (undo(undo(mirror(5))), "~~m5"),
+    (undo(row()), "~()"),
+    (undo(row(turn(1), mirror(2))), "~(t1 m2)"),
+    (times(undo(turn(5)), 3), "~t5*3"),
+    (undo(row(times(turn(5), 3))), "~(t5*3)"),
+    (times(row(times(turn(5), 3)), 2), "(t5*3)*2"),
+    (times(undo(undo(turn(5))), 3), "~~t5*3"),
+    (times(undo(row(times(turn(5), 3))), 2), "~(t5*3)*2"),
+    (row(times(turn(5), 3), undo(mirror(1)), times(undo(row()), 2)), "(t5*3 ~m1 ~()*2)"),
+    (undo(row(undo(row(undo(turn(1)))))), "~(~(~t1))"),
+]
+
+# What can't be written, at the head.
+UNWRITABLE = [
+    undo(times(turn(5), 3)),
+    undo(times(row(turn(5)), 3)),
+    undo(times(undo(turn(5)), 0)),
+    times(times(turn(5), 3), 2),
+    times(times(turn(5), 1), 1),
+    times(times(row(), 0), 0),
+    times(times(undo(mirror(1)), 3), MOST_TIMES),
+]
 
 
-def files():
-    return sorted(PACKAGE.rglob("*.py"))
+def sayings_around(saying):
+    """The saying within each sort of saying, once and several times."""
+    return [
+        row(saying),
+        row(turn(1), saying),
+        row(saying, turn(1)),
+        row(turn(1), row(mirror(2), saying, turn(1))),
+        undo(saying),
+        undo(row(saying)),
+        times(saying, 2),
+        times(row(saying), 2),
+        times(undo(row(mirror(1), saying)), 2),
+        undo(undo(saying)),
+        undo(undo(row(undo(row(saying))))),
+        in_rows(saying, 4),
+    ]
 
 
-def bound_names(tree):
-    """Names that the file itself makes: defs, classes, imports, parameters and assigned names."""
-    names = []
-    for node in ast.walk(tree):
-        if isinstance(node, (ast.FunctionDef, ast.ClassDef)):
-            names.append(node.name)
-        elif isinstance(node, ast.arg):
-            names.append(node.arg)
-        elif isinstance(node, ast.alias):
-            names.append(node.asname or node.name)
-        elif isinstance(node, ast.Name) and isinstance(node.ctx, ast.Store):
-            names.append(node.id)
-        elif isinstance(node, ast.ExceptHandler) and node.name:
-            names.append(node.name)
-    return names
+class Refusing(unittest.TestCase):
+    def refused_writing(self, saying):
+        with self.assertRaises(ToneError, msg=saying) as caught:
+            saying_text(saying)
+        self.assertIs(type(caught.exception), NoText)
+
+    def refused_reading(self, n, text):
+        with self.assertRaises(ToneError, msg=(n, text)) as caught:
+            read_saying(n, text)
+        self.assertIs(type(caught.exception), NoText)
 
 
-def drawn_from(tree):
-    """The package's own files that a file draws from, by the names of the files."""
-    return [node.module.rpartition(".")[2] for node in tree.body if isinstance(node, ast.ImportFrom)]
+class Written(Refusing):
+    def test_each_sort(self):
+        for saying, text in PAIRS:
+            told = saying_text(saying)
+            self.assertIs(type(told), str)
+            self.assertEqual(told, text)
+
+    def test_all_changes(self):
+        for n in WHEELS:
+            for change in changes(n):
+                self.assertEqual(saying_text(("change", change)), ("t%d" if change[0] == "turn" else "m%d") % change[1])
+
+    def test_all_chosen_numbers(self):
+        for n in WHEELS:
+            for many in chosen_times(n):
+                self.assertEqual(saying_text(times(turn(1), many)), "t1*%d" % many)
+
+    def test_mixed_sayings(self):
+        for n in WHEELS:
+            for saying in mixed_sayings(n, 40, True):
+                self.assertEqual(saying_text(saying), text_by_hand(saying))
+
+    def test_just_those_are_refused_that_have_such_a_one_within(self):
+        refused = 0
+        for n in WHEELS:
+            for saying in mixed_sayings(n):
+                if can_be_written(saying):
+                    self.assertEqual(saying_text(saying), text_by_hand(saying))
+                else:
+                    self.refused_writing(saying)
+                    refused += 1
+        self.assertGreater(refused, 100)
+
+    def test_straight_of_a_times_at_the_head(self):
+        for saying in UNWRITABLE:
+            self.refused_writing(saying)
+
+    def test_straight_of_a_times_within(self):
+        for saying in UNWRITABLE:
+            for around in sayings_around(saying):
+                self.refused_writing(around)
+                self.refused_writing(row(around, around))
+
+    def test_a_row_between_helps(self):
+        self.assertEqual(saying_text(undo(row(times(turn(5), 3)))), "~(t5*3)")
+        self.assertEqual(saying_text(times(row(times(turn(5), 3)), 2)), "(t5*3)*2")
+        self.assertEqual(saying_text(undo(undo(row(times(turn(5), 3))))), "~~(t5*3)")
+        self.refused_writing(undo(undo(times(turn(5), 3))))
+        self.refused_writing(times(undo(times(turn(5), 3)), 2))
+
+    def test_somewhat_beyond_the_bounds_nothing_else_is_refused(self):
+        self.assertEqual(saying_text(undone(turn(1), 12)), "~" * 12 + "t1")
+        self.assertEqual(saying_text(in_rows(turn(1), 12)), "(" * 12 + "t1" + ")" * 12)
+        self.assertEqual(saying_text(row(*[turn(1)] * 75)), "(" + " ".join(["t1"] * 75) + ")")
+        self.assertEqual(saying_text(times(turn(1), MOST_TIMES + 1)), "t1*1" + "0" * 29 + "1")
+        self.assertEqual(saying_text(turn(24)), "t24")
 
 
-def called_name(node):
-    """The name of what is called, of a plain name or a method."""
-    if not isinstance(node, ast.Call):
-        return ""
-    return node.func.attr if isinstance(node.func, ast.Attribute) else getattr(node.func, "id", "")
+class ReadBack(Refusing):
+    def check(self, n, text, saying):
+        told = read_saying(n, text)
+        self.assertEqual(told, saying, (n, text))
+        # Truths and lists would be the same to ==, or not, by chance: of what they are made counts too.
+        for one in all_within(told):
+            self.assertIs(type(one), tuple)
+            if one[0] == "row":
+                self.assertIs(type(one[1]), tuple)
+            if one[0] == "times":
+                self.assertIs(type(one[2]), int)
+            if one[0] == "change":
+                self.assertIs(type(one[1]), tuple)
+                self.assertIs(type(one[1][1]), int)
+
+    def test_each_sort(self):
+        for saying, text in PAIRS:
+            self.check(12, text, saying)
+            self.check(24, text, saying)
+
+    def test_a_number_belongs_to_the_undos_ahead_of_it_too(self):
+        self.assertEqual(read_saying(12, "~t5*3"), ("times", ("undo", ("change", ("turn", 5))), 3))
+        self.assertEqual(
+            read_saying(12, "~(t5*3)"), ("undo", ("row", (("times", ("change", ("turn", 5)), 3),)))
+        )
+
+    def test_all_changes_and_chosen_numbers(self):
+        for n in WHEELS:
+            for change in changes(n):
+                for many in chosen_times(n):
+                    saying = times(("change", change), many)
+                    self.check(n, text_by_hand(saying), saying)
+                self.check(n, text_by_hand(("change", change)), ("change", change))
+
+    def test_mixed_sayings(self):
+        for n in WHEELS:
+            for saying in mixed_sayings(n, 40, True):
+                self.check(n, text_by_hand(saying), saying)
+                self.check(n, saying_text(saying), saying)
+                self.assertEqual(saying_text(read_saying(n, text_by_hand(saying))), text_by_hand(saying))
+
+    def test_what_is_read_does_what_was_written(self):
+        for n in WHEELS:
+            for saying in mixed_sayings(n, 20, True):
+                self.assertEqual(does(n, read_saying(n, saying_text(saying))), does(n, saying))
 
 
-def own_methods():
-    """Names of methods and of values of the package's own classes."""
-    names = []
-    for path in files():
-        for node in ast.walk(ast.parse(path.read_text())):
-            if isinstance(node, ast.ClassDef):
-                names.extend(part.name for part in node.body if isinstance(part, ast.FunctionDef))
-            if isinstance(node, ast.Attribute) and isinstance(node.ctx, ast.Store):
-                names.append(node.attr)
-    return names
+class ReadingRefused(Refusing):
+    def test_empty_and_blank_texts(self):
+        for text in ("", " ", "  ", "\n", "-"):
+            self.refused_reading(12, text)
+
+    def test_blanks(self):
+        for text in (
+            " t5", "t5 ", " t5 ", "t5 m3", "( )", "(  )", "( t5)", "(t5 )", "(t5  m3)", "(t5   m3)", "(t5 m3) ",
+            " (t5 m3)", "(t5 m3)  ", "t 5", "~ t5", "t5 *3", "t5* 3", "t5*3 ", "(t5 *3)", "(t5* 3)", "(t5*3  m1)",
+            "(() )", "( ())", "()()", "(t5)(m3)", "(t5m3)", "(t5~m3)", "(t5(m3))", "(()t5)", "() ()",
+        ):
+            self.refused_reading(12, text)
+
+    def test_brackets(self):
+        for text in (
+            "(", ")", "((", "))", ")(", "(t5", "t5)", "((t5)", "(t5))", "((t5) m3", "(t5 m3", "(t5 m3))", "(t5*3",
+            "~(", "~(t5", "~)", "(~)", "(~ t5)", "(t5 ~)", "(t5 ())(", "[t5]", "{t5}", "(t5,m3)", "(t5;m3)", "(*3)",
+        ):
+            self.refused_reading(12, text)
+
+    def test_changes_that_are_none(self):
+        for text in (
+            "t", "m", "5", "x5", "T5", "M3", "tt5", "t-5", "t+5", "t5.0", "5t", "t5t5", "t5m3", "t00", "t05", "m00",
+            "m011", "turn", "t5a", "a", "~", "~~", "~t", "~5", "t~5", "t5~", "t(5)", "tm",
+        ):
+            self.refused_reading(12, text)
+            self.refused_reading(12, "(" + text + ")")
+            self.refused_reading(12, "(t1 " + text + ")")
+            self.refused_reading(12, "~" + text)
+            self.refused_reading(12, text + "*3")
+
+    def test_tones_beyond_the_wheel(self):
+        for n in WHEELS:
+            for letter in "tm":
+                for number in (n, n + 1, 10 * n, 100, 10 ** 30):
+                    text = f"{letter}{number}"
+                    for around in (text, f"({text})", f"(t0 {text} t0)", f"~{text}", f"{text}*2", f"(~({text} t0))"):
+                        self.refused_reading(n, around)
+                self.assertEqual(read_saying(n, f"~{letter}{n - 1}")[0], "undo")
+
+    def test_a_saying_of_another_wheel(self):
+        self.assertEqual(read_saying(12, "(t11)"), row(turn(11)))
+        self.refused_reading(11, "(t11)")
+        self.assertEqual(read_saying(12, "(t11)"), row(turn(11)))
+
+    def test_numbers_of_times(self):
+        for number in (
+            "", "00", "01", "03", "007", "0" * 31, "-1", "+1", "1.0", "1e3", "0x1", "1_0", "a", "*", "t1", "()", "3a",
+            "3t1", "3(", "3)", "3~", "~3", "(3)", "1,0", "\n3", "3\n", "3\t",
+        ):
+            for ahead in ("t5", "()", "~m1", "(t5 m3)"):
+                self.refused_reading(12, ahead + "*" + number)
+                self.refused_reading(12, "(" + ahead + "*" + number + ")")
+
+    def test_numbers_up_to_the_greatest(self):
+        for many in (MOST_TIMES - 1, MOST_TIMES):
+            self.assertEqual(read_saying(12, f"t1*{many}"), times(turn(1), many))
+            self.assertEqual(read_saying(12, f"(m1 ()*{many})"), row(mirror(1), times(row(), many)))
+        for many in (MOST_TIMES + 1, 2 * MOST_TIMES, 10 ** 31 - 1, 10 ** 31, 10 ** 60 - 1):
+            self.refused_reading(12, f"t1*{many}")
+            self.refused_reading(12, f"(m1 ()*{many})")
+
+    def test_two_times_one_behind_the_other(self):
+        for text in ("t5*3*2", "()*1*1", "~t5*3*2", "(t5 m3)*2*2", "(t5*3*2)", "(m1 t5*3*2 m1)", "~(t5*3*2)", "t5**2"):
+            self.refused_reading(12, text)
+        self.assertEqual(read_saying(12, "(t5*3)*2"), times(row(times(turn(5), 3)), 2))
+
+    def test_figures_letters_and_signs_of_other_scripts(self):
+        for figure in ("\u0661", "\u00b9", "\uff11", "\u0967", "\U0001d7cf", "\u2081", "\u2460"):
+            self.refused_reading(12, "t" + figure)
+            self.refused_reading(12, "t1" + figure)
+            self.refused_reading(12, "t1*" + figure)
+            self.refused_reading(12, "t1*1" + figure)
+        for text in ("\uff541", "\uff08t1\uff09", "(t1\u00a0t2)", "\u223ct1", "t1\u00d72", "t1\uff0a2", "t1\u2009"):
+            self.refused_reading(12, text)
+
+    def test_line_feeds_tabs_and_ends(self):
+        for text in (
+            "t5\n", "\nt5", "(t5\nm3)", "(t5\n m3)", "(t5 m3)\n", "t5*3\n", "~\nt5", "(t5\tm3)", "t5\t", "t5\r",
+        ):
+            self.refused_reading(12, text)
 
 
-class Files(unittest.TestCase):
-    def test_the_package_holds_only_plain_files(self):
-        self.assertTrue((PACKAGE / "__init__.py").is_file())
-        for path in PACKAGE.rglob("*"):
-            if "__pycache__" not in path.parts:
-                self.assertRegex(path.name, r"\A[a-z0-9_]+\.py\Z")
+class Bounds(Refusing):
+    def taken(self, saying):
+        text = text_by_hand(saying)
+        self.assertEqual(read_saying(12, text), saying)
+        self.assertLessEqual(layers(saying), 8)
+        self.assertLessEqual(len(all_within(saying)), 60)
 
-    def test_signs_and_sizes(self):
-        for path in files():
-            with self.subTest(file=path.name):
-                text = path.read_bytes().decode("ascii")
-                self.assertRegex(text, r"\A[ -~\n]*\Z")
-                lines = text.split("\n")
-                self.assertLessEqual(len(lines), 400)
-                self.assertLessEqual(max(len(line) for line in lines), 120)
+    def beyond(self, saying):
+        self.refused_reading(12, text_by_hand(saying))
+        self.assertTrue(layers(saying) > 8 or len(all_within(saying)) > 60)
 
-    def test_words_that_stand_nowhere(self):
-        for path in files():
-            with self.subTest(file=path.name):
-                text = path.read_text()
-                words = re.findall(r"\w+", text)
-                self.assertEqual([word for word in words if word in WORDS_OUT], [])
-                self.assertEqual([piece for piece in PIECES_OUT if piece in text], [])
+    def test_a_ninth_saying_within(self):
+        for innermost in (turn(1), mirror(11), row()):
+            self.taken(undone(innermost, 7))
+            self.beyond(undone(innermost, 8))
+            self.taken(in_rows(innermost, 7))
+            self.beyond(in_rows(innermost, 8))
+            self.taken(times(undone(innermost, 6), 2))
+            self.beyond(times(undone(innermost, 7), 2))
+            self.taken(times(in_rows(innermost, 6), 2))
+            self.beyond(times(in_rows(innermost, 7), 2))
+            self.taken(in_rows(times(innermost, 2), 6))
+            self.beyond(in_rows(times(innermost, 2), 7))
+            self.taken(undone(row(times(innermost, 2)), 5))
+            self.beyond(undone(row(times(innermost, 2)), 6))
+
+    def test_times_in_every_layer(self):
+        eight = times(row(times(row(times(row(times(turn(1), 2)), 3)), 4)), 5)
+        self.assertEqual(layers(eight), 8)
+        self.taken(eight)
+        self.beyond(row(eight))
+        self.beyond(undo(row(eight)))
+        self.beyond(times(row(times(row(times(row(times(undo(turn(1)), 2)), 3)), 4)), 5))
+        self.beyond(times(row(times(row(times(row(times(row(turn(1)), 2)), 3)), 4)), 5))
+
+    def test_a_deep_saying_behind_or_ahead_of_others(self):
+        for deep in (undone(turn(1), 6), in_rows(turn(1), 6), times(undone(turn(1), 5), 3)):
+            self.taken(row(deep, turn(1)))
+            self.taken(row(turn(1), row(), deep))
+            self.beyond(row(undo(row(deep)), turn(1)))
+            self.beyond(row(turn(1), row(deep)))
+            self.beyond(row(turn(1), row(turn(1), deep), turn(1)))
+
+    def test_a_sixty_first_one(self):
+        for leaf in (turn(1), mirror(11), row()):
+            self.taken(row(*[leaf] * 59))
+            self.beyond(row(*[leaf] * 60))
+            self.taken(undo(row(*[leaf] * 58)))
+            self.beyond(undo(row(*[leaf] * 59)))
+            self.taken(times(row(*[leaf] * 58), 3))
+            self.beyond(times(row(*[leaf] * 59), 3))
+            self.taken(row(*[undo(leaf)] * 29 + [leaf]))
+            self.beyond(row(*[undo(leaf)] * 30))
+            self.taken(row(*[times(leaf, 2)] * 29 + [leaf]))
+            self.beyond(row(*[times(leaf, 2)] * 30))
+            self.taken(row(row(*[leaf] * 28), row(*[leaf] * 29)))
+            self.beyond(row(row(*[leaf] * 29), row(*[leaf] * 29)))
+            self.taken(row(*[row(leaf)] * 29 + [leaf]))
+            self.beyond(row(*[row(leaf)] * 30))
+
+    def test_both_bounds_at_once(self):
+        self.taken(undone(row(*[turn(1)] * 53), 6))
+        self.beyond(undone(row(*[turn(1)] * 54), 6))
+        self.beyond(undone(row(*[turn(1)] * 52), 7))
+
+    def test_very_long_texts(self):
+        for many in (100, 1333, 4000, 20000, 100000):
+            for text in (
+                "(" * many, ")" * many, "~" * many, "~" * many + "t1", "(" * many + ")" * many, "()" * many,
+                "t1*" + "1" * many, "t1*" + "0" * many, "t" + "1" * many, "t" + "0" * many, "*3" * many,
+                "t1" + "*3" * many, "(" + "t1 " * many, "(" + "t1 " * many + "t1)", "(" + "()" * many + ")",
+                "(~" * many + "t1" + ")" * many, " " * many, "t1" + " " * many, "(t1" + " " * many + "t1)",
+                "(" * 7 + "t1 " * many + "t1" + ")" * 7, "(" + "t1*2 " * many + "t1)", "t1 " * many,
+            ):
+                self.refused_reading(12, text)
 
 
-class Trees(unittest.TestCase):
-    def nodes(self):
-        for path in files():
-            for node in ast.walk(ast.parse(path.read_text())):
-                yield path.name, node
+class JustWhatIsWritten(Refusing):
+    def test_all_short_texts_of_some_signs(self):
+        some = list(zip(changes(3), ("t0", "t1", "t2", "m0", "m1", "m2")))
+        for signs, length in (("t0(~*) ", 6), ("tm012()~* 3", 4), ("t1*0", 7), ("t0() ", 7)):
+            written = written_up_to(length, range(10 ** (length - 3)), some)
+            written = {text: written[text] for text in written if all(sign in signs for sign in text)}
+            seen = 0
+            for size in range(length + 1):
+                for chosen in itertools.product(signs, repeat=size):
+                    text = "".join(chosen)
+                    if text in written:
+                        self.assertEqual(read_saying(3, text), written[text])
+                        self.assertEqual(saying_text(written[text]), text)
+                        seen += 1
+                    else:
+                        with self.assertRaises(NoText, msg=text):
+                            read_saying(3, text)
+            self.assertEqual(seen, len(written))
 
-    def test_statements_and_expressions(self):
-        for name, node in self.nodes():
-            if isinstance(node, ast.stmt):
-                self.assertIsInstance(node, STATEMENTS, (name, node.lineno))
-            if isinstance(node, ast.expr):
-                self.assertIsInstance(node, EXPRESSIONS + (ast.Set,), (name, node.lineno))
-            self.assertNotIsInstance(node, (ast.Div, ast.MatMult, ast.Starred))
-            if isinstance(node, ast.Constant):
-                self.assertIn(type(node.value), (int, str, bool, type(None)), (name, node.lineno))
-                self.assertNotIn("%", str(node.value), (name, node.lineno))
+    def test_texts_near_to_written_ones(self):
+        for n in (3, 10, 12, 24):
+            texts = [text_by_hand(saying) for saying in mixed_sayings(n, 40, True)]
+            texts = [text for text in texts if len(text) <= 100] + [text for saying, text in PAIRS]
+            read = refused = 0
+            for text in texts:
+                for place in range(len(text) + 1):
+                    near = [text[:place] + sign + text[place:] for sign in "t1(~*) m0"]
+                    near += [text[:place] + sign + text[place + 1:] for sign in "t1(~*) m09"]
+                    near.append(text[:place] + text[place + 1:])
+                    near.append(text[:place] + text[place:place + 1] * 2 + text[place + 1:])
+                    near.append(text[:place] + text[place:place + 2][::-1] + text[place + 2:])
+                    for asked in near:
+                        saying = read_by_hand(n, asked)
+                        if saying is None:
+                            refused += 1
+                            self.refused_reading(n, asked)
+                        else:
+                            read += 1
+                            self.assertEqual(read_saying(n, asked), saying)
+                            self.assertEqual(saying_text(saying), asked)
+            self.assertGreater(read, 1000)
+            self.assertGreater(refused, 10000)
 
-    def test_texts_by_themselves_stand_at_a_files_top_alone(self):
-        for path in files():
-            tree = ast.parse(path.read_text())
-            for node in ast.walk(tree):
-                if isinstance(node, ast.Expr) and node is not tree.body[0]:
-                    self.assertIsInstance(node.value, ast.Call, (path.name, node.lineno))
 
-    def test_assignments_functions_and_comprehensions(self):
-        for name, node in self.nodes():
-            if isinstance(node, ast.Assign):
-                self.assertEqual(len(node.targets), 1, (name, node.lineno))
-            if isinstance(node, (ast.For, ast.While)):
-                self.assertEqual(node.orelse, [], (name, node.lineno))
-            if isinstance(node, ast.ListComp):
-                self.assertEqual(len(node.generators), 1, (name, node.lineno))
-                self.assertLessEqual(len(node.generators[0].ifs), 1, (name, node.lineno))
-            if isinstance(node, (ast.FunctionDef, ast.ClassDef)):
-                self.assertEqual(node.decorator_list, [], (name, node.lineno))
-            if isinstance(node, ast.FunctionDef):
-                self.assertLessEqual(node.end_lineno - node.lineno + 1, 40, (name, node.lineno))
-                self.assertEqual((node.args.vararg, node.args.kwarg, node.args.kwonlyargs), (None, None, []))
-
-    def test_imports(self):
-        for name, node in self.nodes():
-            if isinstance(node, ast.ImportFrom):
-                self.assertEqual(node.level, 0, (name, node.lineno))
-                self.assertRegex(node.module, r"\Atonemirror\.[a-z_]+\Z")
-                self.assertNotIn("*", [alias.name for alias in node.names])
-
-    def test_imports_are_from_the_file_that_defines_the_name(self):
-        for name, node in self.nodes():
-            if isinstance(node, ast.ImportFrom):
-                source = ast.parse((PACKAGE / (node.module.rpartition(".")[2] + ".py")).read_text())
-                defined = [part.name for part in source.body if isinstance(part, (ast.FunctionDef, ast.ClassDef))]
-                for part in source.body:
-                    if isinstance(part, ast.Assign):
-                        defined.append(part.targets[0].id)
-                for alias in node.names:
-                    self.assertIn(alias.name, defined, (name, node.lineno))
-
-    def test_no_two_files_draw_from_one_another(self):
-        left = {path.stem: drawn_from(ast.parse(path.read_text())) for path in files()}
-        while left:
-            # Files that draw from none that is left are taken away; of a ring none ever is.
-            free = [name for name in left if not any(source in left for source in left[name])]
-            self.assertNotEqual(free, [], sorted(left))
-            for name in free:
-                del left[name]
-
-    def test_no_parameter_or_local_is_called_like_an_import_or_a_class(self):
-        for path in files():
-            tree = ast.parse(path.read_text())
-            taken = [node.name for node in tree.body if isinstance(node, ast.ClassDef)]
-            for node in tree.body:
-                if isinstance(node, ast.ImportFrom):
-                    taken.extend(alias.asname or alias.name for alias in node.names)
-            for node in ast.walk(tree):
-                if isinstance(node, ast.arg):
-                    self.assertNotIn(node.arg, taken, (path.name, node.lineno))
-                if isinstance(node, ast.Name) and isinstance(node.ctx, ast.Store):
-                    self.assertNotIn(node.id, taken, (path.name, node.lineno))
-
-    def test_what_is_walked_is_walked_on_the_spot(self):
-        for path in files():
-            tree = ast.parse(path.read_text())
-            walked = []
-            for node in ast.walk(tree):
-                if isinstance(node, (ast.For, ast.comprehension)):
-                    walked.append(id(node.iter))
-                if called_name(node) in WALKERS and isinstance(node.func, ast.Name) and node.args:
-                    walked.append(id(node.args[0]))
-                if called_name(node) == "join" and isinstance(node.func.value, ast.Constant):
-                    walked.append(id(node.args[0]))
-            for node in ast.walk(tree):
-                if called_name(node) in WALKED + WALKED_METHODS:
-                    self.assertIn(id(node), walked, (path.name, node.lineno))
-
-    def test_exponents_are_written(self):
-        for name, node in self.nodes():
-            if isinstance(node, (ast.BinOp, ast.AugAssign)) and isinstance(node.op, ast.Pow):
-                exponent = node.right if isinstance(node, ast.BinOp) else node.value
-                self.assertIsInstance(exponent, ast.Constant, (name, node.lineno))
-                self.assertIn(exponent.value, range(65), (name, node.lineno))
-
-    def test_is_stands_beside_none_true_and_false_alone(self):
-        for name, node in self.nodes():
-            if isinstance(node, ast.Compare) and any(isinstance(op, (ast.Is, ast.IsNot)) for op in node.ops):
-                values = [part.value for part in node.comparators if isinstance(part, ast.Constant)]
-                self.assertTrue(values and all(value in (None, True, False) for value in values), (name, node.lineno))
-
-    def test_names(self):
-        for path in files():
-            tree = ast.parse(path.read_text())
-            bound = bound_names(tree)
-            for name in bound:
-                if name not in METHODS_OF_CLASSES:
-                    self.assertRegex(name, r"\A[A-Za-z][A-Za-z0-9_]*\Z", path.name)
-                    self.assertFalse(hasattr(builtins, name), (path.name, name))
-            for node in ast.walk(tree):
-                if isinstance(node, ast.Name) and isinstance(node.ctx, ast.Load):
-                    self.assertIn(node.id, bound + BUILT_IN, (path.name, node.lineno))
-
-    def test_methods(self):
-        known = METHODS + own_methods()
-        for name, node in self.nodes():
-            if isinstance(node, ast.Attribute):
-                self.assertIn(node.attr, known, (name, node.lineno))
-
-    def test_sets_are_not_kept(self):
-        for path in files():
-            tree = ast.parse(path.read_text())
-            held = []
-            for node in ast.walk(tree):
-                if isinstance(node, ast.Call) and getattr(node.func, "id", "") in ("sorted", "len"):
-                    held.extend(id(part) for part in ast.walk(node) if part is not node)
-                if isinstance(node, ast.Compare):
-                    held.extend(id(part) for part in ast.walk(node))
-            for node in ast.walk(tree):
-                made = isinstance(node, ast.Call) and getattr(node.func, "id", "") in ("set", "frozenset")
-                if made or isinstance(node, ast.Set):
-                    self.assertIn(id(node), held, (path.name, node.lineno))
+class NothingElseRefused(unittest.TestCase):
+    def test_wheels_somewhat_beyond_the_bounds(self):
+        for n in [1, 2, 25, 30]:
+            saying = times(undo(row(turn(n - 1), mirror(0))), 3)
+            self.assertEqual(read_saying(n, saying_text(saying)), saying)
 
 
 if __name__ == "__main__":

@@ -17,7 +17,7 @@ def rank(n, one, seconds):
 
 def least_leading(n, one, other):
     if len(one) != len(other):
-        raise NoLeading(f"a leading goes between crowds of as many tones, not from {one} to {other}")
+        raise NoLeading("a leading goes between crowds of as many tones")
     # A crossing could be exchanged for a lesser square at no more cost, so the least leading has none;
     # and without a crossing the second ones go once round the wheel in order, from any one of them on.
     best = min([rank(n, one, seconds) for seconds in turned_round(other)])

@@ -34,5 +34,5 @@ def fits(n, row, form):
 
 def fitting(n, row):
     if n % 2 != 0:
-        raise NoHalf(f"a row of {n} tones has no half")
+        raise NoHalf("a row of an odd number of tones has no half")
     return [form for form in forms(n) if fits(n, row, form)]
